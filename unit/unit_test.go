@@ -42,9 +42,9 @@ func sample() api.Unit {
 			of(api.KMap, 22, 23),                // 27
 			words(api.KStruct, 0, "X", 2),       // 28
 			words(api.KIface, 0, "M N", 24, 24), // 29
-			called("p.A"),                        // 30
-			called("p.T", 1, 30),                 // 31
-			called("p.I"),                        // 32
+			called("p.A"),                       // 30
+			called("p.T", 1, 30),                // 31
+			called("p.I"),                       // 32
 			words(api.KIface, 3, "M ~", 24, 2),  // 33
 		),
 		Named: []api.Named{
