@@ -319,6 +319,26 @@ func TestP17_1TypeWrong(t *testing.T) {
 	}
 }
 
+// TestTypeExpr: of expressions' nodes, too, what is wrong is told.
+func TestTypeExpr(t *testing.T) {
+	w := resolve(t, "p: import \"q\"; var a int; var b = a.x.y + f()[a] + q.T[a](1) + (-a)", "q: type T[A any] int")
+	at := 0
+	for i, f := range w.Prog.Files {
+		if f.Pkg == "p" {
+			at = i
+		}
+	}
+	var got []string
+	for k, n := range w.Prog.Files[at].Nodes {
+		if _, _, bad := Type(w, api.Ctx{Pkg: "p", File: at}, k); n.Kind == api.NSel || n.Kind == api.NIndex || n.Kind == api.NUnary {
+			got = append(got, fmt.Sprintf("%d%s+%d:%d", n.Kind, n.Text, bad[0].At-n.At, bad[0].Why))
+		}
+	}
+	if want := strings.Fields("6x+0:8 6y+0:11 8+0:11 6T+0:11 8+4:11 9-+0:11"); !slices.Equal(got, want) {
+		t.Error(got)
+	}
+}
+
 // TestTypeMany: what unit.Put and unit.Under tell is told at the node.
 func TestTypeMany(t *testing.T) {
 	w := resolve(t, "type G[A any] struct{ a []A }; type T int; var a *[]G[T]")

@@ -12,6 +12,7 @@ import (
 	"indenture/nat"
 	"indenture/rat"
 	"indenture/typ"
+	"indenture/unit"
 )
 
 func num(n int64) api.Val {
@@ -394,6 +395,29 @@ func TestP18_3(t *testing.T) {
 			if _, bad := Assign(u, v2, k, x.Type); bad != nil {
 				t.Error(text, to, bad)
 			}
+		}
+	}
+}
+
+// TestMany: what unit, subst, tset and sel tell is told at the node.
+func TestMany(t *testing.T) {
+	for text, want := range map[string]int{"x.g": 0, "x == x": 0, "anyf(x)": 5, "-x": 0, "x[0]": 0, "int(x)": 0, "x << 1": 0, "v << x": 0, "fac(x)": 4, "G[bool](x)": 0, "gen[string, []string]": 12, "(x)": -1, "f[x]": 0, "x()": 0, "l[x]": 0, "x + x": 0, "x < x": 0, "fun(x, s)": 4} {
+		w, v, i := world(t, text, false)
+		u, at, e := unit.Put(w.Unit, api.Type{Kind: api.KNamed, Name: "p.G", Kids: []int{api.YFloat32}})
+		if e != api.OK {
+			t.Fatal(e)
+		}
+		for n := 0; len(u.Types) < api.MaxTypes; n++ {
+			u.Types = append(slices.Clip(u.Types), api.Type{Kind: api.KArray, N: 5000 + n, Kids: []int{2}})
+		}
+		w.Unit = u
+		v.Names, v.Types = []string{"x"}, []int{at}
+		_, _, bad := Check(w, v, i)
+		if want < 0 && bad != nil || want >= 0 && (len(bad) != 1 || bad[0].At != len(header)+want) {
+			t.Error(text, bad)
+		}
+		if want >= 0 && len(bad) == 1 && bad[0].Why != api.ErrMany && text != "f[x]" {
+			t.Error(text, bad)
 		}
 	}
 }
