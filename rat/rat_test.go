@@ -137,16 +137,11 @@ func TestP2_2(t *testing.T) {
 				t.Fatal(what, a, b, got, e)
 			}
 		}
-		total := func(minus bool) *big.Int {
-			if a.Neg == (b.Neg != minus) {
-				return new(big.Int).Add(ne, md)
-			}
-			return new(big.Int)
-		}
+		total := new(big.Int).Add(ne, md)
 		got, why := Add(a, b)
-		check("Add", got, why, fit(ne, md, de, total(false)), new(big.Rat).Add(x, y))
+		check("Add", got, why, fit(ne, md, de, total), new(big.Rat).Add(x, y))
 		got, why = Sub(a, b)
-		check("Sub", got, why, fit(ne, md, de, total(true)), new(big.Rat).Sub(x, y))
+		check("Sub", got, why, fit(ne, md, de, total), new(big.Rat).Sub(x, y))
 		got, why = Mul(a, b)
 		check("Mul", got, why, fit(nm, de), new(big.Rat).Mul(x, y))
 		got, why = Quo(a, b)
@@ -174,17 +169,10 @@ func TestP2_2Edges(t *testing.T) {
 	half, _ := nat.Shift(nat.Of(1), 511)
 	top := api.Rat{Num: half, Den: nat.Of(1)}
 	down := api.Rat{Neg: true, Num: half, Den: nat.Of(1)}
-	if x, e := Add(top, top); e != api.ErrOver {
-		t.Error(x, e)
-	}
-	if x, e := Add(down, down); e != api.ErrOver {
-		t.Error(x, e)
-	}
-	if x, e := Sub(top, down); e != api.ErrOver {
-		t.Error(x, e)
-	}
-	if x, e := Add(top, down); e != api.OK || len(x.Num) != 0 || !Right(x) {
-		t.Error(x, e)
+	for _, a := range []api.Rat{top, down} {
+		for _, b := range []api.Rat{top, down} {
+			tooGreat(t, a, b)
+		}
 	}
 	small, _ := Make(false, nat.Of(1), half)
 	if x, e := Mul(small, top); e != api.OK || !Like(x, of(1, 1)) {
@@ -198,6 +186,56 @@ func TestP2_2Edges(t *testing.T) {
 	}
 	if x, e := Add(of(1, 6), of(1, 3)); e != api.OK || !Like(x, of(1, 2)) {
 		t.Error(x, e)
+	}
+}
+
+// tooGreat looks whether neither the sum of two nor one less the other is told.
+func tooGreat(t *testing.T, a, b api.Rat) {
+	t.Helper()
+	for _, f := range []func(a, b api.Rat) (api.Rat, api.Errno){Add, Sub} {
+		if x, e := f(a, b); e != api.ErrOver || !Like(x, api.Rat{}) {
+			t.Error(a, b, x, e)
+		}
+		if x, e := f(b, a); e != api.ErrOver || !Like(x, api.Rat{}) {
+			t.Error(b, a, x, e)
+		}
+	}
+}
+
+// TestP2_2Signs: the sum of both products without signs may not be 2^512, whatever the signs, nor whether it is Add or Sub.
+func TestP2_2Signs(t *testing.T) {
+	half, _ := nat.Shift(nat.Of(1), 511)
+	less, _ := nat.Sub(half, nat.Of(1))
+	most, _ := nat.Add(half, less)
+	third, _, _ := nat.Div(most, nat.Of(3))
+	for _, c := range []struct {
+		n, d, m, e api.Nat
+		over       bool
+	}{
+		{half, nat.Of(1), less, nat.Of(1), false},
+		{half, nat.Of(1), half, nat.Of(1), true},
+		{most, nat.Of(1), nil, nat.Of(1), false},
+		{most, nat.Of(1), nat.Of(1), nat.Of(1), true},
+		{most, nat.Of(2), nil, nat.Of(1), false},
+		{third, nat.Of(1), nat.Of(1), nat.Of(3), true},
+		{third, nat.Of(1), nat.Of(1), nat.Of(2), false},
+		{less, nat.Of(2), nat.Of(1), nat.Of(2), true},
+		{less, nat.Of(2), nat.Of(1), nat.Of(1), false},
+	} {
+		for _, negs := range [][2]bool{{}, {true, false}, {false, true}, {true, true}} {
+			a, _ := Make(negs[0], c.n, c.d)
+			b, _ := Make(negs[1], c.m, c.e)
+			if c.over {
+				tooGreat(t, a, b)
+				continue
+			}
+			if x, e := Add(a, b); e != api.OK || !same(x, new(big.Rat).Add(bigRat(a), bigRat(b))) {
+				t.Error(a, b, x, e)
+			}
+			if x, e := Sub(a, b); e != api.OK || !same(x, new(big.Rat).Sub(bigRat(a), bigRat(b))) {
+				t.Error(a, b, x, e)
+			}
+		}
 	}
 }
 
